@@ -1,0 +1,1 @@
+"""Shelfway: rows of volumes, and two ways to tell how far they are out of order."""
